@@ -1,0 +1,1 @@
+"""Allelse: wishes that hang on other choices, all else alike."""

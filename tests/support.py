@@ -1,0 +1,168 @@
+"""What the tests share: odd things, spoilt forms of right ones, and rooms and books to ask about."""
+
+import copy
+import itertools
+import random
+
+PLAIN = (tuple, list, int, bool, str, type(None))
+GREAT = 10 ** 30 - 1
+
+
+def nested(kind, depth):
+    """One thing within another one, depth times."""
+    thing = kind()
+    for _ in range(depth - 1):
+        thing = kind([thing])
+    return thing
+
+
+def odd_things():
+    """Things of every kind that may be handed in where anything may."""
+    return [
+        None, True, False, 0, 1, 2, -1, GREAT, -GREAT, "", "0", "01", "a" * 1000,
+        (), [], {}, (None,), [None], {None: None}, {0: 0}, {0: 1, 1: 0}, {(): ()},
+        ((),), [()], ([],), [[]], ({},), [{}], ("",), [""], ((0, 0),), [(0, 0)], [[0, 0]],
+        (0,), (1,), (2,), [2], (True,), (False,), (-1,), (GREAT,), (0, 1), [0, 1], (0, 0), (True, False),
+        (0,) * 9, (0,) * 40000, [0] * 40000, [(0, 0)] * 15000, ((0, 0),) * 15000,
+        nested(tuple, 40), nested(list, 40), (nested(tuple, 39), 1), [nested(list, 39), 1],
+        ((), 0, 0, 1), [(), 0, 0, 1], (((), 0, 0, 1),), [((), 0, 0, 1)], ((0, 1), (0, 1)),
+    ]
+
+
+def swaps(thing):
+    """Things that may stand in the place of this one, some of which Python calls equal to it."""
+    told = [None, True, False, "", "0", (), [], {}, -1, GREAT, -GREAT]
+    if type(thing) is int:
+        told += [thing - 1, thing + 1, bool(thing), str(thing), (thing,), [thing]]
+    if type(thing) is tuple:
+        told += [list(thing), dict(enumerate(thing)), (thing,), thing + (0,), (0,) + thing, str(thing)]
+        told += [thing + thing, thing[::-1]]
+    if type(thing) is list:
+        told += [tuple(thing), dict(enumerate(thing)), [thing], thing + [0], [0] + thing, str(thing)]
+        told += [thing + thing, thing[::-1]]
+    return told
+
+
+def spoilt(thing):
+    """Forms of a thing with one place of it changed, left out or put in twice."""
+    told = swaps(thing)
+    if type(thing) not in (tuple, list):
+        return told
+    kind = type(thing)
+    for at, part in enumerate(thing):
+        before, after = list(thing[:at]), list(thing[at + 1:])
+        told.append(kind(before + after))
+        told.append(kind(before + [part, part] + after))
+        told += [kind(before + [other] + after) for other in spoilt(part)]
+    return told
+
+
+def spoil(thing):
+    """Change each list and dict within a told thing, the thing itself too."""
+    if type(thing) in (tuple, list):
+        for part in thing:
+            spoil(part)
+    if type(thing) is list:
+        thing.reverse()
+        thing.append("spoilt")
+        del thing[0]
+    if type(thing) is dict:
+        thing.clear()
+
+
+def is_plain(thing):
+    """Whether a told thing is of Python's own kinds all through."""
+    if type(thing) not in PLAIN:
+        return False
+    if type(thing) in (tuple, list):
+        return all(is_plain(part) for part in thing)
+    return True
+
+
+def check_told(case, ask, *handed):
+    """Ask twice with the first answer spoilt between; what is handed in stays, and what is told is plain."""
+    before = copy.deepcopy(handed)
+    first = ask(*handed)
+    case.assertTrue(is_plain(first), first)
+    kept = copy.deepcopy(first)
+    spoil(first)
+    second = ask(*handed)
+    case.assertEqual(second, kept)
+    case.assertEqual(repr(second), repr(kept))
+    case.assertEqual(repr(handed), repr(before))
+    return second
+
+
+def check_truth(case, wanted, ask, *handed):
+    """The answer is the truth that is wanted, no other thing that counts as it, and nothing is changed."""
+    before = repr(handed)
+    case.assertIs(ask(*handed), wanted, handed)
+    case.assertEqual(repr(handed), before)
+
+
+def all_rooms():
+    """Every room there is."""
+    told = []
+    for many in range(1, 9):
+        for room in itertools.product((2, 3, 4), repeat=many):
+            size = 1
+            for worths in room:
+                size *= worths
+            if size <= 256:
+                told.append(room)
+    return told
+
+
+def all_standings(room):
+    """Every standing of the room, rising."""
+    return list(itertools.product(*[range(worths) for worths in room]))
+
+
+def all_givens(room):
+    """Every given of the room."""
+    told = []
+    for row in itertools.product(*[[None] + list(range(worths)) for worths in room]):
+        told.append(tuple((box, worth) for box, worth in enumerate(row) if worth is not None))
+    return told
+
+
+def all_wishes(room):
+    """Every wish of the room."""
+    told = []
+    for given in all_givens(room):
+        for box in set(range(len(room))) - {box for box, worth in given}:
+            for better, worse in itertools.permutations(range(room[box]), 2):
+                told.append((given, box, better, worse))
+    return sorted(told)
+
+
+def some_books(room, many, most, seed):
+    """So many books of the room, of none to most wishes, always the same ones."""
+    chance = random.Random(seed)
+    wishes = all_wishes(room)
+    return [tuple(chance.choice(wishes) for _ in range(chance.randint(0, most))) for _ in range(many)]
+
+
+def full_given(standing, box):
+    """The given that tells all boxes but this one as they are."""
+    return tuple((other, worth) for other, worth in enumerate(standing) if other != box)
+
+
+def step_wish(one, other):
+    """The wish that betters one to other, which are unlike at one box, and nothing else."""
+    box = [at for at in range(len(one)) if one[at] != other[at]][0]
+    return (full_given(one, box), box, other[box], one[box])
+
+
+def row_book(row):
+    """A book that betters each of a row of standings to the next one, and nothing else."""
+    return tuple(step_wish(one, other) for one, other in zip(row, row[1:]))
+
+
+def snake(room):
+    """All standings of the room in a row, each unlike the next one at one box."""
+    rows = [()]
+    for worths in room:
+        there = list(range(worths))
+        rows = [row + (worth,) for at, row in enumerate(rows) for worth in (there if at % 2 == 0 else there[::-1])]
+    return rows
