@@ -55,6 +55,16 @@ def is_standing(room, thing):
     return True
 
 
+def are_standings(room, thing):
+    """Whether it is a list of standings of the room."""
+    if not isinstance(thing, list):
+        return False
+    for standing in thing:
+        if not is_standing(room, standing):
+            return False
+    return True
+
+
 def combined(choices):
     """All tuples with one worth out of each rising list of choices, rising."""
     rows = [()]

@@ -148,9 +148,14 @@ def full_given(standing, box):
     return tuple((other, worth) for other, worth in enumerate(standing) if other != box)
 
 
+def unlike_at(one, other):
+    """The boxes at which two standings are unlike."""
+    return [box for box in range(len(one)) if one[box] != other[box]]
+
+
 def step_wish(one, other):
     """The wish that betters one to other, which are unlike at one box, and nothing else."""
-    box = [at for at in range(len(one)) if one[at] != other[at]][0]
+    (box,) = unlike_at(one, other)
     return (full_given(one, box), box, other[box], one[box])
 
 
@@ -166,3 +171,54 @@ def snake(room):
         there = list(range(worths))
         rows = [row + (worth,) for at, row in enumerate(rows) for worth in (there if at % 2 == 0 else there[::-1])]
     return rows
+
+
+def plain_steps(room, book):
+    """Of each standing all that it is bettered to, with the first wish that does it, pair by pair."""
+    leads = {}
+    for one in all_standings(room):
+        leads[one] = {}
+        for other in all_standings(room):
+            for at, (given, box, better, worse) in enumerate(book):
+                wanted = list(one)
+                wanted[box] = better
+                kept = all(one[told] == worth for told, worth in given)
+                if kept and one[box] == worse and tuple(wanted) == other and other not in leads[one]:
+                    leads[one][other] = at
+    return leads
+
+
+def not_held(leads, held):
+    """The steps of plain_steps at boxes that aren't held."""
+    return {one: [other for other in leads[one] if unlike_at(one, other)[0] not in held] for one in leads}
+
+
+def plain_better(leads):
+    """Of each standing all that are better than it, by putting steps together till nothing more comes."""
+    better = {one: set(leads[one]) for one in leads}
+    for middle in leads:
+        for one in leads:
+            if middle in better[one]:
+                better[one] |= better[middle]
+    return better
+
+
+def shortest_ways(leads, one, other):
+    """All ways of two standings or more from one to other than which none is shorter; there must be one."""
+    ways = [[one]]
+    while True:
+        ways = [way + [there] for way in ways for there in leads[way[-1]]]
+        found = [way for way in ways if way[-1] == other]
+        if found:
+            return found
+
+
+def longest_into(leads, standing):
+    """How many steps the longest way has that ends in the standing, where there is no ring."""
+    return max([0] + [longest_into(leads, one) + 1 for one in leads if standing in leads[one]])
+
+
+def all_held(room):
+    """Every rising tuple of boxes."""
+    boxes = range(len(room))
+    return [held for many in range(len(room) + 1) for held in itertools.combinations(boxes, many)]

@@ -1,0 +1,47 @@
+"""Betterings: the steps from a standing to another one by the wishes of a book."""
+
+from allelse.givens import keeps
+from allelse.rooms import changed, standings
+
+
+def why(book, one, other):
+    """The number of the first wish by which one is bettered to other, or None."""
+    for at, (given, box, better, worse) in enumerate(book):
+        if one[box] == worse and keeps(one, given) and changed(one, box, better) == other:
+            return at
+    return None
+
+
+def betterings(room, book, standing, held=None):
+    """All standings to which this one is bettered at boxes that aren't held, rising."""
+    left_alone = () if held is None else held
+    return sorted({
+        changed(standing, box, better) for given, box, better, worse in book
+        if standing[box] == worse and box not in left_alone and keeps(standing, given)
+    })
+
+
+def all_betterings(room, book):
+    """The betterings of each standing of the room, by the standings, rising."""
+    return {standing: betterings(room, book, standing) for standing in standings(room)}
+
+
+def local_pairs(room, book, box, standing):
+    """All tuples (worse, better) of the box at the standing, rising."""
+    # A wish's given never tells of its own box, so the standing as it is keeps it just where the changed one does.
+    return sorted({
+        (worse, better) for given, at, better, worse in book
+        if at == box and keeps(standing, given)
+    })
+
+
+def is_walked(room, book, row, held=None):
+    """Whether each standing of a list of them but the last is bettered to the next one at a box that isn't held."""
+    # A row may come by one standing many times, so what it leads to is reckoned once.
+    leads = {}
+    for here, there in zip(row, row[1:]):
+        if here not in leads:
+            leads[here] = betterings(room, book, here, held)
+        if there not in leads[here]:
+            return False
+    return True
