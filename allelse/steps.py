@@ -35,6 +35,16 @@ def local_pairs(room, book, box, standing):
     })
 
 
+def all_local_pairs(room, book):
+    """Of each standing of the room a list of the local pairs of each box, by the standings, rising."""
+    # A box asks its own wishes alone, so those of the others are looked through once only.
+    own = [tuple([wish for wish in book if wish[1] == box]) for box in range(len(room))]
+    return {
+        standing: [local_pairs(room, own[box], box, standing) for box in range(len(room))]
+        for standing in standings(room)
+    }
+
+
 def is_walked(room, book, row, held=None):
     """Whether each standing of a list of them but the last is bettered to the next one at a box that isn't held."""
     # A row may come by one standing many times, so what it leads to is reckoned once.

@@ -222,3 +222,100 @@ def all_held(room):
     """Every rising tuple of boxes."""
     boxes = range(len(room))
     return [held for many in range(len(room) + 1) for held in itertools.combinations(boxes, many)]
+
+
+def put(standing, box, worth):
+    """The standing with this worth at this box."""
+    row = list(standing)
+    row[box] = worth
+    return tuple(row)
+
+
+def plain_pairs(room, leads):
+    """Of each standing the local pairs of each box, said by the steps."""
+    told = {}
+    for standing in leads:
+        told[standing] = []
+        for box, worths in enumerate(room):
+            rows = itertools.product(range(worths), repeat=2)
+            pairs = [(worse, better) for worse, better in rows
+                     if put(standing, box, better) in leads[put(standing, box, worse)]]
+            told[standing].append(pairs)
+    return told
+
+
+def plain_hangs(room, pairs):
+    """What hangs on what, said by the local pairs at each two standings unlike at one box."""
+    told = []
+    for box, other in itertools.product(range(len(room)), repeat=2):
+        unlike = [(here, there) for here in pairs for there in pairs if unlike_at(here, there) == [other]]
+        if [None for here, there in unlike if pairs[here][box] != pairs[there][box]]:
+            told.append((box, other))
+    return told
+
+
+def plain_order(room, hanging):
+    """The order of boxes, said by what hangs on what, or None."""
+    left, row = list(range(len(room))), []
+    while left:
+        can = [box for box in left if not [other for other in left if (box, other) in hanging]]
+        if not can:
+            return None
+        row.append(min(can))
+        left.remove(min(can))
+    return row
+
+
+def right_round(row, pairs):
+    """Whether a list is one of two or more unlike things, each two that follow, and the last and the first, pairs."""
+    if type(row) is not list or len(row) < 2 or len(set(row)) != len(row):
+        return False
+    return all((here, row[(at + 1) % len(row)]) in pairs for at, here in enumerate(row))
+
+
+def has_round(pairs):
+    """Whether tuples (from, to) go round, by taking those away that lead to nothing."""
+    left = list(pairs)
+    while True:
+        stay = [pair for pair in left if [other for other in left if other[0] == pair[1]]]
+        if len(stay) == len(left):
+            return bool(left)
+        left = stay
+
+
+def chance_pairs(chance, worths):
+    """Tuples (worse, better) that go nowhere round and have one top."""
+    row = list(range(worths))
+    chance.shuffle(row)
+    told = {(row[at], row[chance.randrange(at)]) for at in range(1, worths)}
+    more = [(row[at], row[to]) for at in range(worths) for to in range(at)]
+    return sorted(told | {pair for pair in more if chance.random() < 0.3})
+
+
+def settled_book(room, chance, most=3):
+    """A settled book, of a chance's making; some of its wishes are said in parts, or twice, or tell too much."""
+    row = list(range(len(room)))
+    chance.shuffle(row)
+    wishes = []
+    for at, box in enumerate(row):
+        asked = sorted(chance.sample(row[:at], chance.randint(0, min(at, most))))
+        for worths in itertools.product(*[range(room[other]) for other in asked]):
+            given = tuple(zip(asked, worths))
+            for worse, better in chance_pairs(chance, room[box]):
+                wishes.append((given, box, better, worse))
+    for given, box, better, worse in list(wishes)[:20]:
+        free = [other for other in range(len(room)) if other != box and other not in dict(given)]
+        if free and chance.random() < 0.3:
+            other = chance.choice(free)
+            wishes.remove((given, box, better, worse))
+            told = [tuple(sorted(given + ((other, worth),))) for worth in range(room[other])]
+            wishes += [(more, box, better, worse) for more in told]
+    wishes += [wish for wish in wishes[:20] if chance.random() < 0.1]
+    chance.shuffle(wishes)
+    return tuple(wishes)
+
+
+def settled_books(room, many, seed):
+    """So many settled books of the room, always the same ones."""
+    chance = random.Random(seed)
+    return [settled_book(room, chance) for _ in range(many)]
