@@ -1,5 +1,7 @@
 """Rooms, and the standings of their boxes."""
 
+from allelse.errors import TooMany
+
 MOST_BOXES = 8
 LEAST_WORTHS = 2
 MOST_WORTHS = 4
@@ -33,6 +35,12 @@ def is_room(thing):
 def is_small(room):
     """Whether the room is a small one."""
     return multiplied(room) <= MOST_OF_SMALL
+
+
+def must_be_small(room):
+    """Refuse a room that isn't a small one."""
+    if not is_small(room):
+        raise TooMany("the room has too many standings")
 
 
 def is_box(room, thing):

@@ -4,6 +4,8 @@ import copy
 import itertools
 import random
 
+from allelse.errors import WishError
+
 PLAIN = (tuple, list, int, bool, str, type(None))
 GREAT = 10 ** 30 - 1
 
@@ -98,6 +100,15 @@ def check_truth(case, wanted, ask, *handed):
     before = repr(handed)
     case.assertIs(ask(*handed), wanted, handed)
     case.assertEqual(repr(handed), before)
+
+
+def refusal(case, ask, *handed):
+    """The error with which what is asked is refused; nothing that is handed in is changed."""
+    before = repr(handed)
+    with case.assertRaises(WishError) as caught:
+        ask(*handed)
+    case.assertEqual(repr(handed), before)
+    return caught.exception
 
 
 def all_rooms():
@@ -292,6 +303,11 @@ def chance_pairs(chance, worths):
     return sorted(told | {pair for pair in more if chance.random() < 0.3})
 
 
+def rising(room):
+    """A settled book by which each box goes up step by step."""
+    return tuple(((), box, worth + 1, worth) for box, worths in enumerate(room) for worth in range(worths - 1))
+
+
 def settled_book(room, chance, most=3):
     """A settled book, of a chance's making; some of its wishes are said in parts, or twice, or tell too much."""
     row = list(range(len(room)))
@@ -319,3 +335,98 @@ def settled_books(room, many, seed):
     """So many settled books of the room, always the same ones."""
     chance = random.Random(seed)
     return [settled_book(room, chance) for _ in range(many)]
+
+
+def is_kept(standing, given):
+    """Whether a standing keeps a given."""
+    return all(standing[box] == worth for box, worth in given)
+
+
+def kept(room, given):
+    """All standings that keep the given, rising."""
+    return [standing for standing in all_standings(room) if is_kept(standing, given)]
+
+
+def first_parting(room, book, second):
+    """What is told of two books that are parted, or None, said by the steps."""
+    leads = [plain_steps(room, book), plain_steps(room, second)]
+    better = [plain_better(leads[0]), plain_better(leads[1])]
+    for one, other in itertools.product(all_standings(room), repeat=2):
+        is_by = [other in better[0][one], other in better[1][one]]
+        if is_by[0] != is_by[1]:
+            which = is_by.index(True)
+            way = min(shortest_ways(leads[which], one, other))
+            return ("parts", which, one, other, way, sorted(better[1 - which][one] | {one}))
+    return None
+
+
+def are_alike(room, book, second):
+    """Whether two books are alike, said by the steps."""
+    return plain_better(plain_steps(room, book)) == plain_better(plain_steps(room, second))
+
+
+def plain_grounds(leads, box, better, worse):
+    """The grounds, said by the steps."""
+    return sorted(one for one in leads if one[box] == worse and put(one, box, better) in leads[one])
+
+
+def givens_without(room, box):
+    """Every given of the room without the box."""
+    return [given for given in all_givens(room) if box not in dict(given)]
+
+
+def plain_lies(room, some, box, worse, given):
+    """Whether a given lies in grounds."""
+    return all(standing in some for standing in kept(room, given) if standing[box] == worse)
+
+
+def plain_wide(room, some, box, worse):
+    """All givens that are wide for grounds, rising."""
+    lying = [given for given in givens_without(room, box) if plain_lies(room, some, box, worse, given)]
+    return sorted(
+        given for given in lying
+        if not [one for one in given if tuple(other for other in given if other != one) in lying]
+    )
+
+
+def grounds_book(some, box, better):
+    """A book by which these standings are bettered at the box, and nothing else."""
+    return tuple((full_given(ground, box), box, better, ground[box]) for ground in some)
+
+
+def made_tree(wide, still, m, pick):
+    """A tree for the grounds still open, by a pick of one of them."""
+    ground = pick(still)
+    if m == 0:
+        return (ground, [])
+    tries = []
+    for given in [given for given in wide if is_kept(ground, given)]:
+        tries.append((given, made_tree(wide, [one for one in still if not is_kept(one, given)], m - 1, pick)))
+    return (ground, tries)
+
+
+def right_tree(wide, still, m, thing):
+    """Whether a thing is a tree for the grounds still open and m, by all wide givens."""
+    if type(thing) is not tuple or len(thing) != 2 or type(thing[1]) is not list:
+        return False
+    if repr(thing[0]) not in [repr(one) for one in still]:
+        return False
+    givens = [given for given in wide if is_kept(thing[0], given)] if m != 0 else []
+    if len(thing[1]) != len(givens):
+        return False
+    for given, tried in zip(givens, thing[1]):
+        if type(tried) is not tuple or len(tried) != 2 or repr(tried[0]) != repr(given):
+            return False
+        if not right_tree(wide, [one for one in still if not is_kept(one, given)], m - 1, tried[1]):
+            return False
+    return True
+
+
+def least_many(still, wide):
+    """How many givens a least cover of the grounds has, trying ever more of them."""
+    many = 0
+    while True:
+        for some in itertools.combinations(wide, many):
+            if all([given for given in some if is_kept(one, given)] for one in still):
+                return many
+        many += 1

@@ -4,7 +4,7 @@ import unittest
 
 from allelse.bests import bests
 from support import (
-    all_givens, all_standings, check_told, not_held, plain_steps, row_book, settled_books, snake, some_books,
+    all_givens, all_standings, check_told, kept, not_held, plain_steps, row_book, settled_books, snake, some_books,
 )
 
 ROOMS = ((2,), (4,), (2, 2), (3, 2), (2, 4), (2, 2, 2), (2, 2, 2, 2))
@@ -38,8 +38,7 @@ class Bests(unittest.TestCase):
     def test_without_wishes(self):
         for room in ROOMS:
             for given in all_givens(room):
-                kept = [standing for standing in all_standings(room) if all(standing[at] == to for at, to in given)]
-                self.assertEqual(bests(room, (), given), kept)
+                self.assertEqual(bests(room, (), given), kept(room, given))
 
     def test_a_given_of_all_boxes(self):
         for room in ROOMS:
@@ -54,8 +53,7 @@ class Bests(unittest.TestCase):
                 leads = plain_steps(room, book)
                 for given in all_givens(room):
                     steps = not_held(leads, [box for box, worth in given])
-                    wanted = [standing for standing in all_standings(room)
-                              if all(standing[at] == to for at, to in given) and not steps[standing]]
+                    wanted = [standing for standing in kept(room, given) if not steps[standing]]
                     told = bests(room, book, given)
                     self.assertEqual(told, wanted)
                     found[len(told)] = found.get(len(told), 0) + 1

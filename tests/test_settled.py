@@ -8,7 +8,7 @@ from allelse.rings import ring_or_worths
 from allelse.settled import local_round, settled, tops
 from support import (
     all_standings, check_told, has_round, plain_hangs, plain_order, plain_pairs, plain_steps, right_round,
-    settled_books, some_books,
+    rising, settled_books, some_books,
 )
 
 ROOMS = ((2,), (3,), (4,), (2, 2), (3, 2), (2, 4), (2, 2, 2), (2, 2, 2, 2))
@@ -22,11 +22,6 @@ def books(room):
     for book in settled_books(room, 8, 33):
         told += [book, book[1:], book[:-2] + book[-1:], book[::-1] + some_books(room, 1, 1, 34)[0]]
     return told
-
-
-def rising(room):
-    """A settled book by which each box goes up step by step."""
-    return tuple(((), box, worth + 1, worth) for box, worths in enumerate(room) for worth in range(worths - 1))
 
 
 def plain_tops(worths, pairs):

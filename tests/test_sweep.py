@@ -4,15 +4,16 @@ import itertools
 import unittest
 
 from allelse.bests import bests
-from allelse.errors import NotKept, NotSettled, WishError
+from allelse.errors import NotKept, NotSettled
 from allelse.hangs import order
 from allelse.settled import settled
 from allelse.steps import betterings
 from allelse.sweep import best, swept
 from allelse.ways import lets_way
 from support import (
-    all_givens, all_standings, check_told, is_plain, not_held, plain_better, plain_hangs, plain_order, plain_pairs,
-    plain_steps, put, row_book, settled_books, shortest_ways, snake, some_books, spoil, unlike_at,
+    all_givens, all_standings, check_told, is_plain, kept, not_held, plain_better, plain_hangs, plain_order,
+    plain_pairs, plain_steps, put, refusal, rising, row_book, settled_books, shortest_ways, snake, some_books, spoil,
+    unlike_at,
 )
 
 ROOMS = ((2,), (4,), (2, 2), (3, 2), (2, 4), (2, 2, 2), (2, 3, 2), (2, 2, 2, 2))
@@ -22,15 +23,6 @@ DOWN = ((), 0, 0, 1)
 # Box 1 goes with box 0, and box 0 rises.
 GOES_WITH = (UP, (((0, 1),), 1, 1, 0), (((0, 0),), 1, 0, 1))
 RING = ((((1, 1),), 0, 1, 0), (((1, 0),), 0, 0, 1), (((0, 1),), 1, 1, 0), (((0, 0),), 1, 0, 1))
-
-
-def rising(room):
-    """A settled book by which each box goes up step by step."""
-    return tuple(((), box, worth + 1, worth) for box, worths in enumerate(room) for worth in range(worths - 1))
-
-
-def kept(room, given):
-    return [standing for standing in all_standings(room) if all(standing[box] == worth for box, worth in given)]
 
 
 def unsettled(room):
@@ -178,30 +170,23 @@ class Swept(unittest.TestCase):
 
 
 class Refused(unittest.TestCase):
-    def refusal(self, ask, *handed):
-        before = repr(handed)
-        with self.assertRaises(WishError) as caught:
-            ask(*handed)
-        self.assertEqual(repr(handed), before)
-        return caught.exception
-
     def check_why(self, room, book, ask, *more):
-        error = self.refusal(ask, room, book, *more)
+        error = refusal(self, ask, room, book, *more)
         self.assertIs(type(error), NotSettled)
         wanted = settled(room, book)
         self.assertEqual(error.why, wanted)
         self.assertTrue(is_plain(error.why), error.why)
         spoil(error.why)
         self.assertEqual(settled(room, book), wanted)
-        self.assertEqual(self.refusal(ask, room, book, *more).why, wanted)
+        self.assertEqual(refusal(self, ask, room, book, *more).why, wanted)
 
     def test_written_out(self):
-        self.assertEqual(self.refusal(best, (2,), (), ()).why, ("tops", (0,), 0, [0, 1]))
-        self.assertEqual(self.refusal(swept, (2,), (), (0,), ()).why, ("tops", (0,), 0, [0, 1]))
-        self.assertEqual(self.refusal(best, (2,), (UP, DOWN), ()).why[:3], ("round", (0,), 0))
-        self.assertEqual(self.refusal(swept, (2,), (UP, DOWN), (1,), ()).why[:3], ("round", (0,), 0))
-        self.assertEqual(self.refusal(best, (2, 2), RING, ()).why[0], "hangs")
-        self.assertEqual(self.refusal(swept, (2, 2), RING, (0, 0), ()).why[0], "hangs")
+        self.assertEqual(refusal(self, best, (2,), (), ()).why, ("tops", (0,), 0, [0, 1]))
+        self.assertEqual(refusal(self, swept, (2,), (), (0,), ()).why, ("tops", (0,), 0, [0, 1]))
+        self.assertEqual(refusal(self, best, (2,), (UP, DOWN), ()).why[:3], ("round", (0,), 0))
+        self.assertEqual(refusal(self, swept, (2,), (UP, DOWN), (1,), ()).why[:3], ("round", (0,), 0))
+        self.assertEqual(refusal(self, best, (2, 2), RING, ()).why[0], "hangs")
+        self.assertEqual(refusal(self, swept, (2, 2), RING, (0, 0), ()).why[0], "hangs")
 
     def test_each_book_that_is_not_settled(self):
         found = {"hangs": 0, "round": 0, "tops": 0}
@@ -230,20 +215,20 @@ class Refused(unittest.TestCase):
                         if standing in kept(room, given):
                             swept(room, book, standing, given)
                         else:
-                            self.assertIs(type(self.refusal(swept, room, book, standing, given)), NotKept)
+                            self.assertIs(type(refusal(self, swept, room, book, standing, given)), NotKept)
 
     def test_not_settled_goes_ahead_of_not_kept(self):
         self.check_why((2, 2), RING, swept, (0, 0), ((0, 1),))
         self.check_why((2, 2), (UP,), swept, (0, 0), ((0, 1),))
         self.check_why((2,), (UP, DOWN), swept, (0,), ((0, 1),))
-        self.assertIs(type(self.refusal(swept, (2, 2), GOES_WITH, (0, 0), ((0, 1),))), NotKept)
+        self.assertIs(type(refusal(self, swept, (2, 2), GOES_WITH, (0, 0), ((0, 1),))), NotKept)
 
     def test_great_rooms(self):
         for room in GREAT_ROOMS:
             zero = (0,) * len(room)
             self.check_why(room, rising(room)[1:], best, ())
             self.check_why(room, row_book(snake(room)), swept, zero, ((0, 1),))
-            self.assertIs(type(self.refusal(swept, room, rising(room), zero, ((0, 0), (1, 1)))), NotKept)
+            self.assertIs(type(refusal(self, swept, room, rising(room), zero, ((0, 0), (1, 1)))), NotKept)
 
 
 if __name__ == "__main__":
