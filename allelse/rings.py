@@ -1,7 +1,7 @@
 """Rings of betterings, or worths that rise at each bettering."""
 
 from allelse.rooms import are_standings, is_whole, multiplied, number
-from allelse.steps import all_betterings, is_walked
+from allelse.steps import Leads, all_betterings, is_walked
 
 
 def many_into(leads):
@@ -56,7 +56,7 @@ def lets_ring(room, book, thing):
     """Whether it is a ring of the book."""
     if not are_standings(room, thing) or len(thing) < 2 or len(set(thing)) != len(thing):
         return False
-    return is_walked(room, book, thing + [thing[0]])
+    return is_walked(Leads(room, book), thing + [thing[0]])
 
 
 def are_worths(room, thing):

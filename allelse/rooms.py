@@ -22,14 +22,19 @@ def multiplied(room):
     return many
 
 
-def is_room(thing):
-    """Whether it is a room."""
-    if not isinstance(thing, tuple) or not 1 <= len(thing) <= MOST_BOXES:
+def are_boxes(thing, most):
+    """Whether it is a tuple of one to so many boxes, told by how many worths each has."""
+    if not isinstance(thing, tuple) or not 1 <= len(thing) <= most:
         return False
     for worths in thing:
         if not is_whole(worths) or not LEAST_WORTHS <= worths <= MOST_WORTHS:
             return False
-    return multiplied(thing) <= MOST_STANDINGS
+    return True
+
+
+def is_room(thing):
+    """Whether it is a room."""
+    return are_boxes(thing, MOST_BOXES) and multiplied(thing) <= MOST_STANDINGS
 
 
 def is_small(room):

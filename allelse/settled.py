@@ -26,23 +26,19 @@ def tops(room, book, box, standing):
     return tops_by(room[box], local_pairs(room, book, box, standing))
 
 
-def first_round(room, pairs):
-    """The first local round there is, with its standing and box, by the local pairs of each standing, or None."""
-    for standing in pairs:
-        for box, here in enumerate(pairs[standing]):
-            worths = round_by(room[box], here)
-            if worths is not None:
-                return ("round", standing, box, worths)
-    return None
+def first_against(rows):
+    """The first round there is, else the first tops that aren't just one, else None.
 
-
-def first_tops(room, pairs):
-    """The first tops that aren't just one, with their standing and box, likewise, or None."""
-    for standing in pairs:
-        for box, here in enumerate(pairs[standing]):
-            worths = tops_by(room[box], here)
-            if len(worths) != 1:
-                return ("tops", standing, box, worths)
+    Each of the rows is a tuple (place, worths, pairs): where it is, how many worths its box has, its local pairs.
+    """
+    for place, worths, pairs in rows:
+        found = round_by(worths, pairs)
+        if found is not None:
+            return ("round",) + place + (found,)
+    for place, worths, pairs in rows:
+        found = tops_by(worths, pairs)
+        if len(found) != 1:
+            return ("tops",) + place + (found,)
     return None
 
 
@@ -52,10 +48,11 @@ def looked_through(room, book):
     word, boxes = put_in_order(room, hangs_by(room, pairs))
     if word == "ring":
         return ("hangs", boxes), None
-    against = first_round(room, pairs)
-    if against is None:
-        against = first_tops(room, pairs)
-    return against, boxes
+    rows = [
+        ((standing, box), room[box], here)
+        for standing in pairs for box, here in enumerate(pairs[standing])
+    ]
+    return first_against(rows), boxes
 
 
 def settled(room, book):

@@ -45,13 +45,22 @@ def all_local_pairs(room, book):
     }
 
 
-def is_walked(room, book, row, held=None):
-    """Whether each standing of a list of them but the last is bettered to the next one at a box that isn't held."""
-    # A row may come by one standing many times, so what it leads to is reckoned once.
-    leads = {}
-    for here, there in zip(row, row[1:]):
-        if here not in leads:
-            leads[here] = betterings(room, book, here, held)
-        if there not in leads[here]:
-            return False
-    return True
+class Leads:
+    """The betterings by a book at boxes that aren't held; a standing is asked about again and again, reckoned once."""
+
+    def __init__(self, room, book, held=None):
+        self.room = room
+        self.wishes = book
+        self.held = held
+        self.known = {}
+
+    def after(self, standing):
+        """All standings to which this one is bettered, rising; a list that is only to be read."""
+        if standing not in self.known:
+            self.known[standing] = betterings(self.room, self.wishes, standing, self.held)
+        return self.known[standing]
+
+
+def is_walked(leads, row):
+    """Whether each standing of a list of them but the last is bettered to the next one."""
+    return all([there in leads.after(here) for here, there in zip(row, row[1:])])

@@ -26,13 +26,18 @@ def best_along(room, book, boxes, given):
     return standing
 
 
+def told_at(room, book, box, standing, worth):
+    """What is told of the standing and of it changed to this worth at this box, for all other boxes held."""
+    others = tuple([other for other in range(len(room)) if other != box])
+    return told(room, book, standing, changed(standing, box, worth), others)
+
+
 def steps_to_top(room, book, box, standing):
     """The standings gone to by the fewest betterings at this box alone till it has its top."""
-    there = changed(standing, box, tops(room, book, box, standing)[0])
-    if there == standing:
+    top = tops(room, book, box, standing)[0]
+    if standing[box] == top:
         return []
-    others = tuple([other for other in range(len(room)) if other != box])
-    return told(room, book, standing, there, others)[1][1:]
+    return told_at(room, book, box, standing, top)[1][1:]
 
 
 def swept_along(room, book, boxes, standing, given):

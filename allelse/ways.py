@@ -1,10 +1,10 @@
 """Ways: rows of betterings from a standing to another one."""
 
 from allelse.rooms import are_standings
-from allelse.steps import betterings, is_walked
+from allelse.steps import Leads, is_walked
 
 
-def search(room, book, one, other, held):
+def search(leads, one, other):
     """Go from one over ever more betterings till a bettering to other is found.
 
     Told is a dict that has, for each standing come to, the one that it was first come to from,
@@ -17,7 +17,7 @@ def search(room, book, one, other, held):
     at = 0
     while at < len(row):
         here = row[at]
-        for there in betterings(room, book, here, held):
+        for there in leads.after(here):
             if there == other:
                 return came_from, here
             if there not in came_from:
@@ -37,18 +37,23 @@ def way_to(came_from, standing):
     return row[::-1]
 
 
-def told(room, book, one, other, held=None):
+def told_by(leads, one, other):
     """That other is better than one, with the way, or that it isn't, with the shut set."""
-    came_from, last = search(room, book, one, other, held)
+    came_from, last = search(leads, one, other)
     if last is None:
         return ("not", sorted(came_from))
     return ("better", way_to(came_from, last) + [other])
 
 
+def told(room, book, one, other, held=None):
+    """What is told of one and other by the book, for held boxes: better, with the way, or not, with the shut set."""
+    return told_by(Leads(room, book, held), one, other)
+
+
 def reached(room, book, standing, held=None):
     """The standing and all that are better than it, rising."""
     # No standing is None, so nothing ends the search ahead of time.
-    return sorted(search(room, book, standing, None, held)[0])
+    return sorted(search(Leads(room, book, held), standing, None)[0])
 
 
 def compared(room, book, one, other):
@@ -64,8 +69,13 @@ def compared(room, book, one, other):
     return "worse" if is_worse else "apart"
 
 
+def is_way(leads, one, other, thing):
+    """Whether it is a way of two standings or more from one to other."""
+    if not are_standings(leads.room, thing) or len(thing) < 2:
+        return False
+    return thing[0] == one and thing[-1] == other and is_walked(leads, thing)
+
+
 def lets_way(room, book, one, other, thing, held=None):
     """Whether it is a way of two standings or more from one to other, each step at a box that isn't held."""
-    if not are_standings(room, thing) or len(thing) < 2:
-        return False
-    return thing[0] == one and thing[-1] == other and is_walked(room, book, thing, held)
+    return is_way(Leads(room, book, held), one, other, thing)

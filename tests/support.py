@@ -430,3 +430,45 @@ def least_many(still, wide):
             if all([given for given in some if is_kept(one, given)] for one in still):
                 return many
         many += 1
+
+
+def right_way(room, leads, one, other, thing):
+    """Whether a thing is a way, said by the steps that are let alone."""
+    if type(thing) is not list or len(thing) < 2:
+        return False
+    right = [repr(standing) for standing in all_standings(room)]
+    if [part for part in thing if repr(part) not in right]:
+        return False
+    steps = all(there in leads[here] for here, there in zip(thing, thing[1:]))
+    return steps and thing[0] == one and thing[-1] == other
+
+
+def right_shut(room, leads, one, other, thing):
+    """Whether a thing is a shut set, said by the steps that are let alone."""
+    if type(thing) is not list:
+        return False
+    right = [repr(standing) for standing in all_standings(room)]
+    if [part for part in thing if repr(part) not in right]:
+        return False
+    rising = all(here < there for here, there in zip(thing, thing[1:]))
+    led_to = [there for here in thing for there in leads[here]]
+    return rising and one in thing and other not in led_to and all(there in thing for there in led_to)
+
+
+def right_ring(room, leads, thing):
+    """Whether a thing is a ring, said by the steps."""
+    if type(thing) is not list or len(thing) < 2:
+        return False
+    right = [repr(standing) for standing in all_standings(room)]
+    if [part for part in thing if repr(part) not in right]:
+        return False
+    unlike = all(thing.count(part) == 1 for part in thing)
+    return unlike and all(thing[(at + 1) % len(thing)] in leads[here] for at, here in enumerate(thing))
+
+
+def right_worths(leads, thing):
+    """Whether a thing is worths, said by the steps."""
+    if type(thing) is not tuple or len(thing) != len(leads) or [part for part in thing if type(part) is not int]:
+        return False
+    worth = dict(zip(sorted(leads), thing))
+    return all(worth[one] < worth[other] for one in leads for other in leads[one])

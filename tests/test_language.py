@@ -190,6 +190,37 @@ class Language(unittest.TestCase):
                 if isinstance(node, ast.FunctionDef) and node.name.startswith("__"):
                     self.assertIn(node.name, DOUBLE, name)
 
+    def test_methods_and_values_bear_other_names(self):
+        methods, values, asked, called = set(), set(), set(), set()
+        for name, text, tree in trees():
+            for node in ast.walk(tree):
+                if isinstance(node, ast.ClassDef):
+                    own = [row.name for row in node.body if isinstance(row, ast.FunctionDef)]
+                    self.assertEqual(len(own), len(set(own)), (name, node.name))
+                    methods |= set(own)
+                if isinstance(node, ast.Attribute) and isinstance(node.ctx, ast.Store):
+                    values.add(node.attr)
+                if isinstance(node, ast.Attribute) and isinstance(node.ctx, ast.Load):
+                    asked.add(node)
+                if isinstance(node, ast.Call):
+                    called.add(node.func)
+        self.assertEqual(methods & values, set())
+        self.assertEqual([node.attr for node in asked - called if node.attr not in values], [])
+        python = {word for kind in (str, int, list, dict, set, bytes) for word in dir(kind)}
+        self.assertEqual((methods | values) & python, {"__init__"})
+
+    def test_tops_hold_plain_values_that_are_only_read(self):
+        for name, text, tree in trees():
+            kept = {row.targets[0].id: row.value for row in tree.body if isinstance(row, ast.Assign)}
+            for value in kept.values():
+                parts = list(ast.walk(value))
+                self.assertEqual([part for part in parts if isinstance(part, (ast.Call, ast.ListComp))], [], name)
+                within = [part for part in parts if isinstance(part, (ast.List, ast.Dict))]
+                self.assertLessEqual(len(within), 1, name)
+            for node in ast.walk(tree):
+                if isinstance(node, ast.Subscript) and not isinstance(node.ctx, ast.Load):
+                    self.assertFalse(isinstance(node.value, ast.Name) and node.value.id in kept, (name, node.lineno))
+
     def test_sets(self):
         for name, text, tree in trees():
             let, found = set_places(tree)

@@ -5,8 +5,8 @@ import unittest
 
 from allelse.rings import lets_ring, lets_worths, ring_or_worths
 from support import (
-    GREAT, all_standings, check_told, check_truth, longest_into, odd_things, plain_better, plain_steps, row_book,
-    snake, some_books, spoilt,
+    GREAT, all_standings, check_told, check_truth, longest_into, odd_things, plain_better, plain_steps, right_ring,
+    right_worths, row_book, snake, some_books, spoilt,
 )
 
 ROOMS = ((2,), (3,), (4,), (2, 2), (2, 3), (2, 2, 2), (3, 2, 2))
@@ -18,25 +18,6 @@ STRAIGHT = (((), 0, 1, 0), (((0, 1),), 1, 1, 0))
 
 def books(room):
     return some_books(room, 14, 4, 10) + some_books(room, 8, 9, 11) + some_books(room, 3, 30, 12)
-
-
-def right_ring(room, leads, thing):
-    """Whether a thing is a ring, said by the steps."""
-    if type(thing) is not list or len(thing) < 2:
-        return False
-    right = [repr(standing) for standing in all_standings(room)]
-    if [part for part in thing if repr(part) not in right]:
-        return False
-    unlike = all(thing.count(part) == 1 for part in thing)
-    return unlike and all(thing[(at + 1) % len(thing)] in leads[here] for at, here in enumerate(thing))
-
-
-def right_worths(leads, thing):
-    """Whether a thing is worths, said by the steps."""
-    if type(thing) is not tuple or len(thing) != len(leads) or [part for part in thing if type(part) is not int]:
-        return False
-    worth = dict(zip(sorted(leads), thing))
-    return all(worth[one] < worth[other] for one in leads for other in leads[one])
 
 
 class RingOrWorths(unittest.TestCase):

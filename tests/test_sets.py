@@ -6,23 +6,11 @@ import unittest
 from allelse.sets import lets_shut
 from allelse.ways import told
 from support import (
-    GREAT, all_held, all_standings, check_truth, not_held, odd_things, plain_better, plain_steps, row_book, snake,
-    some_books, spoilt,
+    GREAT, all_held, all_standings, check_truth, not_held, odd_things, plain_better, plain_steps, right_shut, row_book,
+    snake, some_books, spoilt,
 )
 
 BOOK = (((), 0, 1, 0), (((0, 1),), 1, 1, 0))
-
-
-def right_shut(room, leads, one, other, thing):
-    """Whether a thing is a shut set, said by the steps that are let alone."""
-    if type(thing) is not list:
-        return False
-    right = [repr(standing) for standing in all_standings(room)]
-    if [part for part in thing if repr(part) not in right]:
-        return False
-    rising = all(here < there for here, there in zip(thing, thing[1:]))
-    led_to = [there for here in thing for there in leads[here]]
-    return rising and one in thing and other not in led_to and all(there in thing for there in led_to)
 
 
 class LetsShut(unittest.TestCase):

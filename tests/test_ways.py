@@ -6,7 +6,7 @@ from allelse.sets import lets_shut
 from allelse.ways import compared, lets_way, reached, told
 from support import (
     GREAT, all_held, all_standings, check_told, check_truth, not_held, odd_things, plain_better,
-    plain_steps, row_book, shortest_ways, snake, some_books, spoilt,
+    plain_steps, right_way, row_book, shortest_ways, snake, some_books, spoilt,
 )
 
 ROOMS = ((2,), (3,), (4,), (2, 2), (2, 3), (2, 2, 2), (3, 2, 2))
@@ -17,17 +17,6 @@ BOOK = (((), 0, 1, 0), (((0, 0),), 1, 1, 0), (((0, 1),), 1, 1, 0), (((1, 1),), 0
 
 def books(room):
     return some_books(room, 10, 4, 4) + some_books(room, 8, 9, 5) + some_books(room, 3, 30, 6)
-
-
-def right_way(room, leads, one, other, thing):
-    """Whether a thing is a way, said by the steps that are let alone."""
-    if type(thing) is not list or len(thing) < 2:
-        return False
-    right = [repr(standing) for standing in all_standings(room)]
-    if [part for part in thing if repr(part) not in right]:
-        return False
-    steps = all(there in leads[here] for here, there in zip(thing, thing[1:]))
-    return steps and thing[0] == one and thing[-1] == other
 
 
 class Told(unittest.TestCase):
