@@ -308,8 +308,8 @@ def rising(room):
     return tuple(((), box, worth + 1, worth) for box, worths in enumerate(room) for worth in range(worths - 1))
 
 
-def settled_book(room, chance, most=3):
-    """A settled book, of a chance's making; some of its wishes are said in parts, or twice, or tell too much."""
+def plain_wishes(room, chance, most):
+    """The wishes of a plain book, of a chance's making; each box looks at most at so many others."""
     row = list(range(len(room)))
     chance.shuffle(row)
     wishes = []
@@ -319,6 +319,24 @@ def settled_book(room, chance, most=3):
             given = tuple(zip(asked, worths))
             for worse, better in chance_pairs(chance, room[box]):
                 wishes.append((given, box, better, worse))
+    return wishes
+
+
+def plain_books(room, many, seed, most=2):
+    """So many plain books of the room, always the same ones."""
+    chance = random.Random(seed)
+    told = []
+    for _ in range(many):
+        wishes = plain_wishes(room, chance, most)
+        wishes += chance.sample(wishes, min(3, len(wishes)))
+        chance.shuffle(wishes)
+        told.append(tuple(wishes))
+    return told
+
+
+def settled_book(room, chance, most=3):
+    """A settled book, of a chance's making; some of its wishes are said in parts, or twice, or tell too much."""
+    wishes = plain_wishes(room, chance, most)
     for given, box, better, worse in list(wishes)[:20]:
         free = [other for other in range(len(room)) if other != box and other not in dict(given)]
         if free and chance.random() < 0.3:

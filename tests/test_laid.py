@@ -88,7 +88,8 @@ class FullBooks(unittest.TestCase):
             self.assertEqual(full(room, row_book(row) * 2), tuple(sorted(row_book(row))))
 
     def test_as_many_wishes_as_there_can_be(self):
-        every = tuple(((), box, better, worse) for box in range(3) for better, worse in itertools.permutations(range(4), 2))
+        worths = list(itertools.permutations(range(4), 2))
+        every = tuple(((), box, better, worse) for box in range(3) for better, worse in worths)
         told = full((4, 4, 4), every)
         self.assertEqual(len(told), 576)
         self.assertIs(is_book((4, 4, 4), told), True)

@@ -164,6 +164,11 @@ class Lets(unittest.TestCase):
         for at in (1, -1, -2, GREAT, -GREAT, False, True, None, "0", (0,), [0], {}):
             check_truth(self, False, lets, (2,), (UP,), ("needed", at) + paper[2:])
             check_truth(self, False, lets, (2,), (UP, ((), 0, 1, 0)), ("needed", at) + paper[2:])
+        # A number below 0 is no wish's, though Python finds one by it.
+        three = (((), 0, 1, 0), ((), 0, 2, 1), ((), 0, 3, 2))
+        check_truth(self, True, lets, (4,), three, ("needed", 1, (1,), (2,), [(1,), (2,)], [(1,)]))
+        for at in (-1, -2, -3, -4, 3, 4):
+            check_truth(self, False, lets, (4,), three, ("needed", at, (1,), (2,), [(1,), (2,)], [(1,)]))
         # The way is one by the book, though it needn't go by that wish; the set shows without the wish.
         chain = (((), 0, 1, 0), ((), 0, 2, 1), ((), 0, 2, 0))
         check_truth(self, False, lets, (3,), chain, ("needed", 2, (0,), (2,), [(0,), (2,)], [(0,)]))
@@ -310,7 +315,9 @@ class Lets(unittest.TestCase):
             check_truth(self, False, lets, room, book, ("ring", row))
             check_truth(self, True, lets, room, book, ("best", (), row[-1], ways))
             check_truth(self, False, lets, room, book[1:], ("best", (), row[-1], ways))
-            paper = best_paper(room, rising(room) * 10, ())
+            top = tuple(worths - 1 for worths in room)
+            up_ways = [told(room, rising(room), one, top)[1] for one in all_standings(room) if one != top]
+            paper = ("best", (), top, up_ways)
             check_truth(self, True, lets, room, rising(room) * 10, paper)
             check_truth(self, False, lets, room, rising(room)[1:] * 10, paper)
             check_truth(self, False, lets, room, book, paper)
